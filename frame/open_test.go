@@ -159,13 +159,11 @@ func TestOpenOfAFrameWithAnotherByte(t *testing.T) {
 		both := slices.Concat(b, b)
 		for k := range b {
 			was := b[k]
-			for other := range 255 {
+			for range 255 {
 				b[k]++
 				both[k] = b[k]
 				opensNot(t, b, frame.Bad)
-				if other%16 == 0 {
-					opensNot(t, both, frame.Bad)
-				}
+				opensNot(t, both, frame.Bad)
 			}
 			b[k]++
 			both[k] = was
