@@ -32,7 +32,7 @@ func fuse(d *disk.Disk) int {
 	return 20
 }
 
-// of the five calls that tell errors, each with a name and bytes that it may not need.
+// call is one of the five that tell errors; of the name and the bytes it takes what it needs.
 type call struct {
 	word string
 	do   func(d *disk.Disk, name string, b []byte) api.Errno
